@@ -1,0 +1,1 @@
+"""Apartbook: one book of counts, kept by houses apart."""

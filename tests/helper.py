@@ -1,0 +1,85 @@
+"""What several tests use: refusals told as tuples, and sums judged another way."""
+
+import ast
+import itertools
+import re
+
+from apartbook.errors import BookError
+
+FLAT = r" *-? *(?:#|0|[1-9][0-9]*|[a-z]{1,10})(?: *[-+*] *(?:#|0|[1-9][0-9]*|[a-z]{1,10}))* *"
+FLAT_SUM = re.compile(FLAT)
+INNERMOST = re.compile(r"\((" + FLAT + r")\)")
+
+
+def outcome(function, *arguments):
+    """What a call told, or the name and the fields of its refusal."""
+    try:
+        return ("told", function(*arguments))
+    except BookError as error:
+        return (type(error).__name__,) + tuple(vars(error).values())
+
+
+def is_sum(text):
+    """Whether a text is a sum, by taking brackets away from within."""
+    if "#" in text:
+        return False
+    while INNERMOST.search(text):
+        text = INNERMOST.sub("#", text)
+    return FLAT_SUM.fullmatch(text) is not None
+
+
+def begins_a_sum(text):
+    ends = [")" * depth for depth in range(text.count("(") + 1)]
+    return any(is_sum(text + factor + end) for factor in ("", "1") for end in ends)
+
+
+def place_of_no_text(text):
+    return max(size for size in range(len(text) + 1) if begins_a_sum(text[:size]))
+
+
+def judged(names, text):
+    """What read_sum must tell of a text, by Python's own reading of sums."""
+    if not is_sum(text):
+        return ("NoText", place_of_no_text(text))
+    for found in re.finditer("[a-z]+", text):
+        if found.group() not in names:
+            return ("NoName", found.group(), found.start())
+    shift = len(text) - len(text.lstrip())
+    star = first_bent_star(text, shift, ast.parse(text.strip(), mode="eval").body)
+    if star is not None:
+        return ("NotPlain", star)
+    return ("told", form_by_values(names, text.strip()))
+
+
+def form_by_values(names, text):
+    def value(one):
+        return eval(text, {}, {name: int(name == one) for name in names})
+    rest = value(None)
+    return (tuple(value(name) - rest for name in names), rest)
+
+
+def first_bent_star(text, shift, node):
+    if isinstance(node, ast.UnaryOp):
+        return first_bent_star(text, shift, node.operand)
+    if not isinstance(node, ast.BinOp):
+        return None
+    for side in (node.left, node.right):
+        inner = first_bent_star(text, shift, side)
+        if inner is not None:
+            return inner
+    if isinstance(node.op, ast.Mult) and moves(node.left) and moves(node.right):
+        return text.index("*", shift + node.left.end_col_offset)
+    return None
+
+
+def moves(node):
+    """Whether the value of a plain sum hangs on a name."""
+    names = sorted({leaf.id for leaf in ast.walk(node) if isinstance(leaf, ast.Name)})
+    form = form_by_values(names, ast.unparse(node))
+    return any(form[0])
+
+
+def all_texts(signs, length):
+    for size in range(length + 1):
+        for word in itertools.product(signs, repeat=size):
+            yield "".join(word)
