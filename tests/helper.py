@@ -1,8 +1,10 @@
-"""What several tests use: refusals told as tuples, and sums judged another way."""
+"""What several tests use: refusals told as tuples; sums, points and weights judged another way."""
 
 import ast
 import itertools
+import math
 import re
+from fractions import Fraction
 
 from apartbook.errors import BookError
 
@@ -83,3 +85,43 @@ def all_texts(signs, length):
     for size in range(length + 1):
         for word in itertools.product(signs, repeat=size):
             yield "".join(word)
+
+
+def value_by_fractions(coefficients, rest, point):
+    return sum((coefficient * Fraction(*number) for coefficient, number in zip(coefficients, point)), Fraction(rest))
+
+
+def holds_by_fractions(inequality, point):
+    value = value_by_fractions(inequality[0], inequality[1], point)
+    return value > 0 or (value == 0 and inequality[2] is False)
+
+
+def is_point(point, unknowns):
+    """Whether it is a list of fractions without a common part, one for each unknown."""
+    if type(point) is not list or len(point) != unknowns:
+        return False
+    for number in point:
+        if type(number) is not tuple or [type(part) for part in number] != [int, int]:
+            return False
+        if number[1] < 1 or math.gcd(*number) != 1:
+            return False
+    return True
+
+
+def are_weights(weights, size):
+    """Whether it is a list of whole numbers, at least nought, of that size."""
+    if type(weights) is not list or len(weights) != size:
+        return False
+    return all(type(weight) is int and weight >= 0 for weight in weights)
+
+
+def show_none(inequalities, unknowns, weights):
+    """Whether weights show that no point is there, by point 12's own words."""
+    if not are_weights(weights, len(inequalities)):
+        return False
+    pairs = list(zip(inequalities, weights))
+    for unknown in range(unknowns):
+        if sum(weight * inequality[0][unknown] for inequality, weight in pairs) != 0:
+            return False
+    rest = sum(weight * inequality[1] for inequality, weight in pairs)
+    return rest < 0 or (rest == 0 and any(weight > 0 and inequality[2] for inequality, weight in pairs))

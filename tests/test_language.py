@@ -30,6 +30,12 @@ NO_WORDS = (
     "type typing typing_extensions enum Enum IntEnum StrEnum Flag IntFlag Generic Protocol ABC ABCMeta namedtuple "
     "NamedTuple TypedDict TYPE_CHECKING abstractmethod"
 ).split()
+WALKED = ("zip", "enumerate", "reversed", "range", "items", "keys", "values")
+WALKERS = ("list", "tuple", "dict", "sorted", "sum", "any", "all", "enumerate", "zip", "min", "max", "join")
+KEYWORDS = {
+    "sorted": ("key", "reverse"), "min": ("key", "default"), "max": ("key", "default"), "sum": ("start",),
+    "enumerate": ("start",), "zip": ("strict",),
+}
 
 
 def nodes():
@@ -125,6 +131,52 @@ class Language(unittest.TestCase):
             if isinstance(node, ast.Call) and isinstance(node.func, ast.Attribute):
                 self.assertIn(node.func.attr, own | set(METHODS), where)
 
+    def test_no_local_is_called_like_a_class_or_an_import_of_its_file(self):
+        for path in FILES:
+            tree = ast.parse(path.read_text())
+            taken = {node.name for node in ast.walk(tree) if isinstance(node, ast.ClassDef)}
+            taken |= {node.name for node in ast.walk(tree) if isinstance(node, ast.alias)}
+            for node in ast.walk(tree):
+                if isinstance(node, ast.Name) and isinstance(node.ctx, ast.Store):
+                    self.assertNotIn(node.id, taken, path.name)
+                if isinstance(node, ast.arg):
+                    self.assertNotIn(node.arg, taken, path.name)
+
+    def test_what_is_walked_is_walked_on_the_spot(self):
+        for path in FILES:
+            tree = ast.parse(path.read_text())
+            walked = []
+            for node in ast.walk(tree):
+                if isinstance(node, (ast.For, ast.comprehension)):
+                    walked.append(node.iter)
+                if isinstance(node, ast.Call) and called(node) in WALKERS:
+                    walked.extend(node.args[:1] if called(node) != "zip" else node.args)
+            for node in ast.walk(tree):
+                if isinstance(node, ast.Call) and called(node) in WALKED:
+                    self.assertIn(node, walked, f"{path.name}:{node.lineno}")
+
+    def test_keywords_of_pythons_own(self):
+        for where, node in nodes():
+            if isinstance(node, ast.Call) and called(node) in BUILT_IN + METHODS:
+                for keyword in node.keywords:
+                    self.assertIn(keyword.arg, KEYWORDS.get(called(node), ()), where)
+
+    def test_no_set_is_written_or_kept(self):
+        for where, node in nodes():
+            self.assertNotIsInstance(node, ast.Set, where)
+            if isinstance(node, ast.Assign) and isinstance(node.value, ast.Call):
+                self.assertNotIn(called(node.value), ("set", "frozenset"), where)
+
+    def test_no_file_draws_from_one_that_draws_from_it(self):
+        drawn = {}
+        for path in FILES:
+            rows = [node for node in ast.parse(path.read_text()).body if isinstance(node, ast.ImportFrom)]
+            drawn[path.stem] = {row.module.split(".")[1] for row in rows}
+        while drawn:
+            free = [name for name in drawn if not drawn[name] & set(drawn)]
+            self.assertNotEqual(free, [], drawn)
+            drawn = {name: drawn[name] for name in drawn if name not in free}
+
     def test_no_name_is_a_method_here_and_a_value_there(self):
         methods = set()
         values = set()
@@ -134,6 +186,11 @@ class Language(unittest.TestCase):
             if isinstance(node, ast.Attribute) and isinstance(node.ctx, ast.Store):
                 values.add(node.attr)
         self.assertEqual(methods & values, set())
+
+
+def called(node):
+    """The name by which a call calls, of a function or of a method."""
+    return node.func.attr if isinstance(node.func, ast.Attribute) else getattr(node.func, "id", None)
 
 
 def top_names(tree):
