@@ -20,9 +20,12 @@ KINDS = ("item", "rule", "deed")
 def check_book(book):
     if not is_book(book):
         raise NoBook()
-    starts = tuple([item[1] for item in book[0]])
+    refuse_broken(book, starts_of(book))
+
+
+def refuse_broken(book, state):
     for place, rule in enumerate(book[1]):
-        if spare(book, place, starts) < 0:
+        if spare(book, place, state) < 0:
             raise Broken(rule[0])
 
 
@@ -47,6 +50,19 @@ def are_deeds(book):
 
 def names_of(parts):
     return [part[0] for part in parts]
+
+
+def place_of(parts, name):
+    names = names_of(parts)
+    return names.index(name) if name in names else None
+
+
+def copy_of(book):
+    return (list(book[0]), list(book[1]), list(book[2]))
+
+
+def starts_of(book):
+    return tuple([item[1] for item in book[0]])
 
 
 def read_book(text):
@@ -161,12 +177,14 @@ def gain(book, rule, deed):
     return (by_number, beside)
 
 
-def least_gain(book, rule, deed):
+def gained_by(book, rule, deed, n):
     gained = gain(book, rule, deed)
-    low = book[2][deed][1]
-    high = book[2][deed][2]
+    return gained[0] * n + gained[1]
+
+
+def least_gain(book, rule, deed):
     # A gain goes evenly with the number, so it is least at one of the ends.
-    return min(gained[0] * low, gained[0] * high) + gained[1]
+    return min([gained_by(book, rule, deed, end) for end in book[2][deed][1:3]])
 
 
 def is_free(book, rule, deed):
@@ -175,3 +193,11 @@ def is_free(book, rule, deed):
 
 def spare(book, rule, state):
     return value_of((book[1][rule][1], book[1][rule][2]), state)
+
+
+def has_number(book, deed, n):
+    return book[2][deed][1] <= n <= book[2][deed][2]
+
+
+def changed_by(book, state, deed, n):
+    return tuple([number + change[0] * n + change[1] for number, change in zip(state, book[2][deed][3])])

@@ -53,3 +53,9 @@ class Log:
             if row is not None and self.can_take(row):
                 return row
         return None
+
+    def begin(self, counts):
+        self.reached = list(counts)
+
+    def drop(self, counts):
+        self.taken = [row for row in self.taken if row[1] >= counts[row[0]]]

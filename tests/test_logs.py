@@ -7,37 +7,11 @@ import unittest
 
 from apartbook.logs import Log
 
+from helper import PlainLog
+
 
 def row(house, number, *causes):
     return (house, number, causes, ("do", 0, number))
-
-
-class PlainLog:
-    """Point 16 word by word."""
-
-    def __init__(self, houses):
-        self.houses = houses
-        self.taken = []
-        self.wait = {}
-
-    def counts(self):
-        return tuple(sum(one[0] == house for one in self.taken) for house in range(self.houses))
-
-    def can(self, one):
-        counts = self.counts()
-        return one[1] == counts[one[0]] and all(a <= b for a, b in zip(one[2], counts))
-
-    def take(self, one):
-        if any(one[:2] == other[:2] for other in self.taken):
-            return "known"
-        if not self.can(one):
-            self.wait.setdefault(one[:2], one)
-            return "waits"
-        self.taken.append(one)
-        while any(self.can(other) for other in self.wait.values()):
-            first = min(key for key in self.wait if self.can(self.wait[key]))
-            self.taken.append(self.wait.pop(first))
-        return "taken"
 
 
 def done_by_houses(chance, houses, size):
